@@ -1,0 +1,1 @@
+"""Rooklands: rooks that do not meet."""

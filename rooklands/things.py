@@ -1,0 +1,16 @@
+"""What the other modules ask of things of whatever kind."""
+
+
+def is_whole(thing):
+    """Whether a thing is a whole number; to Python a truth is an int, too, but here it is none."""
+    return isinstance(thing, int) and not isinstance(thing, bool)
+
+
+def is_whole_within(thing, least, most):
+    """Whether a thing is a whole number from least to most."""
+    return is_whole(thing) and least <= thing <= most
+
+
+def is_rising(things):
+    """Whether each of things that can be compared is greater than the one ahead."""
+    return all([one < other for one, other in zip(things, things[1:])])

@@ -1,0 +1,99 @@
+"""What can be seen quickly of the rules of LANGUAGE.md; it does not see all of them."""
+
+import ast
+import builtins
+import re
+import unittest
+import warnings
+from pathlib import Path
+
+import rooklands
+
+FOLDER = Path(rooklands.__file__).parent
+BARRED_NODES = (
+    ast.With, ast.Match, ast.Global, ast.Nonlocal, ast.Yield, ast.YieldFrom, ast.AsyncFunctionDef, ast.Await,
+    ast.GeneratorExp, ast.NamedExpr, ast.Div, ast.Import,
+)
+BARRED_WORDS = re.compile(
+    r"\b(type|typing|typing_extensions|enum|Enum|IntEnum|StrEnum|Flag|IntFlag|Generic|Protocol|ABC|ABCMeta"
+    r"|namedtuple|NamedTuple|TypedDict|TYPE_CHECKING|abstractmethod)\b|dataclass|overload|contextmanager"
+)
+ALLOWED_BUILTINS = set(
+    "len range enumerate zip min max sum abs sorted reversed int str bool bytes list tuple dict set frozenset"
+    " isinstance ord repr any all divmod Exception ValueError TypeError KeyError IndexError LookupError"
+    " ZeroDivisionError ArithmeticError OverflowError RuntimeError NotImplementedError AttributeError"
+    " StopIteration".split()
+)
+
+
+def names_bound_in(tree):
+    """Each name that a file gives a meaning, with its line."""
+    for node in ast.walk(tree):
+        if isinstance(node, ast.Name) and isinstance(node.ctx, ast.Store):
+            yield node.id, node.lineno
+        elif isinstance(node, ast.arg):
+            yield node.arg, node.lineno
+        elif isinstance(node, (ast.FunctionDef, ast.ClassDef)):
+            yield node.name, node.lineno
+
+
+class LanguageTest(unittest.TestCase):
+    def setUp(self):
+        self.files = {path: path.read_text(encoding="utf-8") for path in sorted(FOLDER.glob("**/*.py"))}
+        self.trees = {path: ast.parse(text) for path, text in self.files.items()}
+
+    def test_the_folder_has_only_files_of_python(self):
+        self.assertIn(FOLDER / "__init__.py", self.files)
+        for path in FOLDER.iterdir():
+            if path.name != "__pycache__":
+                self.assertRegex(path.name, r"^[a-z0-9_]+\.py$")
+
+    def test_size_and_signs(self):
+        for path, text in self.files.items():
+            self.assertRegex(text, r"\A[ -~\n]*\Z", path)
+            self.assertNotRegex(text, BARRED_WORDS, path)
+            lines = text.splitlines()
+            self.assertLessEqual(len(lines), 400, path)
+            self.assertLessEqual(max(len(line) for line in lines), 120, path)
+
+    def test_functions_are_small_and_plain(self):
+        for path, tree in self.trees.items():
+            for node in ast.walk(tree):
+                if isinstance(node, ast.FunctionDef):
+                    where = (path, node.name)
+                    self.assertLessEqual(node.end_lineno - node.lineno + 1, 40, where)
+                    self.assertEqual(node.decorator_list, [], where)
+                    self.assertIsNone(node.args.vararg, where)
+                    self.assertIsNone(node.args.kwarg, where)
+
+    def test_nothing_barred_is_used(self):
+        for path, tree in self.trees.items():
+            for node in ast.walk(tree):
+                where = (path, getattr(node, "lineno", 0))
+                self.assertNotIsInstance(node, BARRED_NODES, where)
+                if isinstance(node, (ast.For, ast.While)):
+                    self.assertEqual(node.orelse, [], where)
+                if isinstance(node, ast.Constant):
+                    self.assertNotIsInstance(node.value, (float, complex), where)
+                    self.assertNotIn("%", str(node.value), where)
+                if isinstance(node, ast.ImportFrom):
+                    self.assertTrue(node.module.startswith("rooklands.") and node.level == 0, where)
+
+    def test_only_listed_builtins_are_read_and_none_is_bound(self):
+        for path, tree in self.trees.items():
+            for node in ast.walk(tree):
+                if isinstance(node, ast.Name) and hasattr(builtins, node.id):
+                    self.assertIn(node.id, ALLOWED_BUILTINS, (path, node.lineno))
+            for name, line in names_bound_in(tree):
+                self.assertFalse(hasattr(builtins, name) and name != "__init__", (path, line, name))
+                self.assertFalse(name.startswith("_") and not name.endswith("__"), (path, line, name))
+
+    def test_python_gives_no_warning(self):
+        for path, text in self.files.items():
+            with warnings.catch_warnings():
+                warnings.simplefilter("error")
+                compile(text, str(path), "exec")
+
+
+if __name__ == "__main__":
+    unittest.main()
