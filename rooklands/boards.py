@@ -54,6 +54,14 @@ def is_order(many, thing):
     return sorted(thing) == list(range(many))
 
 
+def all_orders(many):
+    """All orders of so many numbers, rising."""
+    orders = [()]
+    for step in range(many):
+        orders = [order + (number,) for order in orders for number in others(many, order)]
+    return orders
+
+
 def led(board, rows, columns):
     """The board led by an order of rows and one of columns."""
     if not is_order(board[0], rows):

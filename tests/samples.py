@@ -1,6 +1,7 @@
 """What the tests hand in: boards, and things of every kind."""
 
 from itertools import product
+from random import Random
 
 
 def all_boards(high, wide):
@@ -35,6 +36,39 @@ UNEVEN = (2, 3, ((0, 0), (0, 2), (1, 2)))
 EDGES = [
     empty(1, 1), full(1, 1), empty(6, 6), full(6, 6), empty(1, 6), full(6, 1),
     empty(6, 1), full(1, 6), LARGE, LONG, TALL, UNEVEN, full(5, 6), full(6, 5),
+]
+
+
+def drawn(seed, high, wide, of_ten):
+    """A board with about so many cells of ten places, the same one for the same numbers."""
+    source = Random(seed)
+    places = [(row, column) for row in range(high) for column in range(wide)]
+    return (high, wide, tuple(place for place in places if source.random() * 10 < of_ten))
+
+
+# Boards of many rows and columns, with few cells and with many.
+DRAWN = [
+    drawn(seed, high, wide, of_ten)
+    for seed, (high, wide) in enumerate([(6, 6), (6, 6), (5, 6), (6, 5), (4, 6), (6, 3), (5, 5)])
+    for of_ten in (2, 4, 6, 8)
+]
+
+NO_ORDERS_OF_TWO = [
+    (), (0,), (1,), (0, 0), (1, 1), (0, 2), (1, 2), (2, 1), (-1, 0), (0, -1), (0, 1, 2), (0, 1, 1), (1, 0, 0),
+    [0, 1], [1, 0], {0: 0, 1: 1}, {0: 1, 1: 0}, "01", "10", None, True, False, 0, 1, 2, 10, (0, True), (False, 1),
+    (False, True), (True, False), (True, 0), (1, False), (0, None), (0, "1"), ("0", "1"), (0, (1,)), ((0, 1),),
+    ([0], [1]), (0, [1]), (0, {}), (0, 10 ** 39), (None, None), ((), ()), ({}, {}),
+]
+
+NO_LINES_OF_UNEVEN = [
+    (), ((),), ((), (), ()), ((0,),), [(), ()], [(0,), (1,)], ([], ()), ((), []), ([0], ()), ((), [0]), (0, 0),
+    (0, ()), ((), 0), (None, ()), ((), None), ("", ""), ("0", ()), ((), "0"), ({}, ()), ((), {}), ({0: 0}, ()),
+    {0: (), 1: ()}, {(): ()}, "", "01", None, 0, 1, True, False,
+    ((2,), ()), ((), (3,)), ((-1,), ()), ((), (-1,)), ((0, 2), ()), ((), (0, 3)), ((-1, 0), ()), ((), (-1, 0)),
+    ((0, 0), ()), ((), (0, 0)), ((1, 0), ()), ((), (1, 0)), ((), (0, 2, 1)), ((), (0, 1, 1)), ((), (2, 0)),
+    ((True,), ()), ((False,), ()), ((), (True,)), ((), (False,)), ((), (0, True)), ((), (False, 2)),
+    ((None,), ()), ((), (None,)), (("0",), ()), ((), ("0",)), (((0,),), ()), ((), ((0,),)), (([0],), ()),
+    ((), (0, None)), ((), (0, "1")), ((0, "1"), ()), ((10 ** 39,), ()), ((), (-(10 ** 39),)), ((0, []), ()),
 ]
 
 

@@ -3,7 +3,7 @@
 import inspect
 import unittest
 
-from rooklands import boards, texts
+from rooklands import boards, hits, lesser, most, stands, texts
 
 LISTED = {
     boards: {
@@ -11,6 +11,19 @@ LISTED = {
         "led": ["board", "rows", "columns"], "without_lines": ["board", "lines"],
     },
     texts: {"written": ["board"], "read": ["text"]},
+    stands: {
+        "is_stand": ["board", "thing"], "counts": ["board"], "stands_of": ["board", "size"],
+        "stand_at": ["board", "size", "number"], "number_of": ["board", "stand"], "next_stand": ["board", "stand"],
+    },
+    most: {"holds": ["board", "thing"], "is_showing": ["board", "thing"], "showing": ["board"], "sure": ["board"]},
+    lesser: {
+        "without": ["board", "cell"], "struck": ["board", "cell"], "beside": ["one", "other"],
+        "multiplied": ["one", "other"], "pieces": ["board"],
+    },
+    hits: {
+        "hits_of": ["board", "order"], "hit_counts": ["board"], "first_hitting": ["board", "many"],
+        "next_hitting": ["board", "order", "many"], "hits_by": ["counts"], "counts_by": ["hits"],
+    },
 }
 
 

@@ -26,6 +26,22 @@ ALLOWED_BUILTINS = set(
 )
 
 
+def names_defined_in(tree):
+    """The names that a file gives a meaning at module level, but by imports."""
+    found = []
+    for node in tree.body:
+        if isinstance(node, (ast.FunctionDef, ast.ClassDef)):
+            found.append(node.name)
+        elif isinstance(node, ast.Assign):
+            found.extend(target.id for target in node.targets)
+    return found
+
+
+def imports_of(tree):
+    """Each name that a file imports, with the module that it is imported from."""
+    return [(alias.name, node.module) for node in tree.body if isinstance(node, ast.ImportFrom) for alias in node.names]
+
+
 def names_bound_in(tree):
     """Each name that a file gives a meaning, with its line."""
     for node in ast.walk(tree):
@@ -87,6 +103,33 @@ class LanguageTest(unittest.TestCase):
             for name, line in names_bound_in(tree):
                 self.assertFalse(hasattr(builtins, name) and name != "__init__", (path, line, name))
                 self.assertFalse(name.startswith("_") and not name.endswith("__"), (path, line, name))
+
+    def test_no_name_is_given_two_meanings(self):
+        for path, tree in self.trees.items():
+            imported = [name for name, module in imports_of(tree)]
+            top = imported + names_defined_in(tree)
+            self.assertEqual(len(set(top)), len(top), path)
+            for name, line in names_bound_in(tree):
+                self.assertNotIn(name, imported, (path, line))
+
+    def test_imports_name_the_file_that_defines_and_do_not_go_around(self):
+        modules = {f"rooklands.{path.stem}": tree for path, tree in self.trees.items()}
+        reached = {module: {source for name, source in imports_of(tree)} for module, tree in modules.items()}
+        for module, tree in modules.items():
+            for name, source in imports_of(tree):
+                self.assertIn(name, names_defined_in(modules[source]), module)
+        for _ in modules:
+            reached = {
+                module: sources.union(*(reached[each] for each in sources)) for module, sources in reached.items()
+            }
+        for module, sources in reached.items():
+            self.assertNotIn(module, sources)
+
+    def test_every_import_is_used(self):
+        for path, tree in self.trees.items():
+            read = {node.id for node in ast.walk(tree) if isinstance(node, ast.Name)}
+            for name, module in imports_of(tree):
+                self.assertIn(name, read, path)
 
     def test_python_gives_no_warning(self):
         for path, text in self.files.items():

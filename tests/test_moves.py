@@ -1,33 +1,23 @@
 """Promises 6 and 7, with 2 and 3 where they bear on them: boards turned, left over, led and without lines."""
 
-import copy
 import unittest
-from itertools import chain, combinations, permutations
+from itertools import permutations
 
+from asking import Asking
+from oracles import subsets
 from rooklands.boards import is_board, led, rest, turned, without_lines
 from rooklands.errors import NoLines, NoOrder, TooFew
 from rooklands.texts import read, written
-from samples import EDGES, LARGE, LONG, TALL, UNEVEN, all_boards, empty, full, odd_things, small_boards
+from samples import (
+    EDGES, LARGE, LONG, NO_LINES_OF_UNEVEN, NO_ORDERS_OF_TWO, TALL, UNEVEN, all_boards, empty, full, odd_things,
+    small_boards,
+)
 
 
-def subsets(many):
-    return list(chain.from_iterable(combinations(range(many), size) for size in range(many + 1)))
-
-
-class MovesTest(unittest.TestCase):
+class MovesTest(Asking):
     def same(self, told, wanted):
-        # The texts are compared, for (1,) == (True,).
         self.assertEqual(repr(told), repr(wanted))
         self.assertTrue(is_board(told))
-
-    def refuse(self, error, ask, *given):
-        before = copy.deepcopy(given)
-        for _ in range(2):
-            with self.assertRaises(error, msg=repr(given)) as caught:
-                ask(*given)
-            self.assertIs(type(caught.exception), error)
-        self.assertEqual(repr(given), repr(before), "changed")
-        return str(caught.exception)
 
 
 class TurnedTest(MovesTest):
@@ -82,7 +72,7 @@ class LedTest(MovesTest):
         self.same(led(read("#.."), (0,), (1, 2, 0)), read("..#"))
         self.same(led(full(1, 1), (0,), (0,)), full(1, 1))
         self.same(led(LONG, (0,), (5, 4, 3, 2, 1, 0)), read("..##.#"))
-        self.same(led(TALL, (1, 2, 5, 0, 3, 4), (0,)), read("#/#/#/./././"[:-1]))
+        self.same(led(TALL, (1, 2, 5, 0, 3, 4), (0,)), read("#/#/#/././."))
         self.same(
             led(LARGE, (5, 3, 1, 0, 2, 4), (0, 5, 3, 4, 1, 2)),
             read("##..../..##../.....#/##..../....#./......"),
@@ -110,19 +100,12 @@ class LedTest(MovesTest):
         self.same(turned(led(LARGE, rows, columns)), led(turned(LARGE), columns, rows))
         self.same(rest(led(LARGE, rows, columns)), led(rest(LARGE), rows, columns))
 
-    NO_ORDERS_OF_TWO = [
-        (), (0,), (1,), (0, 0), (1, 1), (0, 2), (1, 2), (2, 1), (-1, 0), (0, -1), (0, 1, 2), (0, 1, 1), (1, 0, 0),
-        [0, 1], [1, 0], {0: 0, 1: 1}, {0: 1, 1: 0}, "01", "10", None, True, False, 0, 1, 2, 10, (0, True), (False, 1),
-        (False, True), (True, False), (True, 0), (1, False), (0, None), (0, "1"), ("0", "1"), (0, (1,)), ((0, 1),),
-        ([0], [1]), (0, [1]), (0, {}), (0, 10 ** 39), (None, None), ((), ()), ({}, {}),
-    ]
-
     def test_no_order_of_rows(self):
-        for rows in self.NO_ORDERS_OF_TWO:
+        for rows in NO_ORDERS_OF_TWO:
             self.refuse(NoOrder, led, UNEVEN, rows, (2, 0, 1))
 
     def test_no_order_of_columns(self):
-        for columns in self.NO_ORDERS_OF_TWO:
+        for columns in NO_ORDERS_OF_TWO:
             self.refuse(NoOrder, led, turned(UNEVEN), (2, 0, 1), columns)
 
     def test_rows_and_columns_are_not_taken_for_one_another(self):
@@ -162,13 +145,14 @@ class WithoutLinesTest(MovesTest):
     def test_by_signs(self):
         for board in all_boards(2, 3) + all_boards(3, 2) + [LONG, TALL]:
             high, wide, cells = board
-            for rows in subsets(high):
-                for columns in subsets(wide):
+            for rows in subsets(range(high)):
+                for columns in subsets(range(wide)):
                     if len(rows) == high or len(columns) == wide:
                         self.refuse(TooFew, without_lines, board, (rows, columns))
                         continue
+                    left = [column for column in range(wide) if column not in columns]
                     signs = [
-                        "".join("#" if (row, column) in cells else "." for column in range(wide) if column not in columns)
+                        "".join("#" if (row, column) in cells else "." for column in left)
                         for row in range(high) if row not in rows
                     ]
                     self.same(without_lines(board, (rows, columns)), read("/".join(signs)))
@@ -178,19 +162,8 @@ class WithoutLinesTest(MovesTest):
             self.same(without_lines(board, ((), ())), board)
             self.same(without_lines(board, ((), ())), board)
 
-    NO_LINES = [
-        (), ((),), ((), (), ()), ((0,),), [(), ()], [(0,), (1,)], ([], ()), ((), []), ([0], ()), ((), [0]), (0, 0),
-        (0, ()), ((), 0), (None, ()), ((), None), ("", ""), ("0", ()), ((), "0"), ({}, ()), ((), {}), ({0: 0}, ()),
-        {0: (), 1: ()}, {(): ()}, "", "01", None, 0, 1, True, False,
-        ((2,), ()), ((), (3,)), ((-1,), ()), ((), (-1,)), ((0, 2), ()), ((), (0, 3)), ((-1, 0), ()), ((), (-1, 0)),
-        ((0, 0), ()), ((), (0, 0)), ((1, 0), ()), ((), (1, 0)), ((), (0, 2, 1)), ((), (0, 1, 1)), ((), (2, 0)),
-        ((True,), ()), ((False,), ()), ((), (True,)), ((), (False,)), ((), (0, True)), ((), (False, 2)),
-        ((None,), ()), ((), (None,)), (("0",), ()), ((), ("0",)), (((0,),), ()), ((), ((0,),)), (([0],), ()),
-        ((), (0, None)), ((), (0, "1")), ((0, "1"), ()), ((10 ** 39,), ()), ((), (-(10 ** 39),)), ((0, []), ()),
-    ]
-
     def test_what_are_no_lines(self):
-        for lines in self.NO_LINES:
+        for lines in NO_LINES_OF_UNEVEN:
             self.refuse(NoLines, without_lines, UNEVEN, lines)
 
     def test_rows_and_columns_are_not_taken_for_one_another(self):
