@@ -16,6 +16,11 @@ def is_rising(things):
     return all([one < other for one, other in zip(things, things[1:])])
 
 
+def is_never_falling(things):
+    """Whether none of things that can be compared is less than the one ahead."""
+    return all([one <= other for one, other in zip(things, things[1:])])
+
+
 def how_many_orders(many):
     """How many orders so many things have."""
     told = 1

@@ -1,6 +1,7 @@
 """What the document tells, found by going through everything; nothing here asks the program."""
 
-from itertools import chain, combinations, permutations
+from itertools import chain, combinations, combinations_with_replacement, permutations, product
+from math import comb, factorial
 
 
 def subsets(things):
@@ -51,3 +52,43 @@ def orders_hitting(board, many):
 
 def hit_counts_by_hand(board):
     return [len(orders_hitting(board, many)) for many in range(board[0] + 1)]
+
+
+def rest_counts_by_hand(high, wide, counts):
+    """The sum as the document tells it."""
+    return [
+        sum(
+            (1 if less % 2 == 0 else -1) * counts[less]
+            * comb(high - less, size - less) * comb(wide - less, size - less) * factorial(size - less)
+            for less in range(size + 1)
+        )
+        for size in range(len(counts))
+    ]
+
+
+def stair_board_by_hand(stairs):
+    cells = {(row, column) for column, many in enumerate(stairs) for row in range(many)}
+    return (max(1, stairs[-1]), len(stairs), tuple(sorted(cells)))
+
+
+def heads_by_hand(stairs):
+    return sorted(stairs[place] - place for place in range(len(stairs)))
+
+
+def tuples_by_heads(columns):
+    """All tuples of so many numbers, none less than the one ahead, by their heads; no head of stairs needs more."""
+    found = {}
+    for numbers in combinations_with_replacement(range(6 + columns), columns):
+        found.setdefault(tuple(heads_by_hand(numbers)), []).append(numbers)
+    return found
+
+
+def partings_by_hand(n):
+    """All partings of n things, rising, by giving each thing the number of a lot in whatever way."""
+    found = set()
+    for numbers in product(range(n), repeat=n):
+        lots = {}
+        for thing, number in enumerate(numbers):
+            lots.setdefault(number, []).append(thing)
+        found.add(tuple(sorted(tuple(lot) for lot in lots.values())))
+    return sorted(found)

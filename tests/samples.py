@@ -1,6 +1,6 @@
 """What the tests hand in: boards, and things of every kind."""
 
-from itertools import product
+from itertools import combinations_with_replacement, product
 from random import Random
 
 
@@ -51,6 +51,18 @@ DRAWN = [
     drawn(seed, high, wide, of_ten)
     for seed, (high, wide) in enumerate([(6, 6), (6, 6), (5, 6), (6, 5), (4, 6), (6, 3), (5, 5)])
     for of_ten in (2, 4, 6, 8)
+]
+
+ALL_STAIRS = [
+    stairs for columns in range(1, 7) for stairs in combinations_with_replacement(range(7), columns)
+]
+
+NO_STAIRS = [
+    (), (-1,), (7,), (8,), (-1, 0), (0, 7), (6, 7), (1, 0), (6, 5), (0, 2, 1), (1, 1, 0), (0, 1, 2, 3, 4, 3), (6, 0),
+    (0,) * 7, (1, 1, 2, 2, 3, 3, 4), (0, 1, 2, 3, 4, 5, 6), (6,) * 7, (0,) * 120, (10 ** 39,), (-(10 ** 39), 0),
+    (0, 10 ** 39), (True,), (False,), (0, True), (False, 1), (True, 2), (True, True), (None,), (0, None), (None, 1),
+    ("0",), ("1", "2"), (0, "1"), ("",), ((0,),), ((0, 1),), (0, (1,)), ([0],), (0, [1]), ({},), (0, {}), [0], [0, 1],
+    [1, 1, 2], [], {}, {0: 0, 1: 1}, "", "0", "01", "012", None, 0, 1, 12, -1, 10 ** 39, True, False,
 ]
 
 NO_ORDERS_OF_TWO = [

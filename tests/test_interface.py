@@ -3,7 +3,7 @@
 import inspect
 import unittest
 
-from rooklands import boards, hits, lesser, most, stands, texts
+from rooklands import boards, heads, hits, lesser, most, partings, rests, stairs, stands, texts
 
 LISTED = {
     boards: {
@@ -23,6 +23,19 @@ LISTED = {
     hits: {
         "hits_of": ["board", "order"], "hit_counts": ["board"], "first_hitting": ["board", "many"],
         "next_hitting": ["board", "order", "many"], "hits_by": ["counts"], "counts_by": ["hits"],
+    },
+    rests: {
+        "is_counts": ["high", "wide", "thing"], "rest_counts": ["high", "wide", "counts"],
+        "rests_well": ["high", "wide", "counts"], "full_counts": ["high", "wide"],
+    },
+    stairs: {"is_stairs": ["thing"], "stair_board": ["stairs"], "stairs_of": ["board"]},
+    heads: {
+        "heads": ["stairs"], "head_counts": ["stairs"], "product_at": ["stairs", "number"],
+        "same_counts": ["one", "other"], "all_stairs": ["stairs"], "risen": ["stairs"],
+    },
+    partings: {
+        "is_parting": ["n", "thing"], "steps": ["n"], "parting_of": ["n", "stand"], "stand_of": ["n", "parting"],
+        "partings": ["n", "many"],
     },
 }
 
