@@ -45,7 +45,8 @@ def rest_count(high, wide, counts, size):
     told = 0
     sign = 1
     for less in range(size + 1):
-        # All rooks on whatever places, so many of them on cells of the board itself.
+        # Stands on whatever places, with so many rooks picked that are on the board's own cells: added and taken away
+        # by turns, just those are left that have no such rook.
         told += sign * counts[less] * full_count(high - less, wide - less, size - less)
         sign = -sign
     return told

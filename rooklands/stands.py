@@ -37,6 +37,11 @@ def stands_of(board, size):
     refuse_no_size(board, size)
     if counts(board)[size] > MOST_TOLD:
         raise TooMany("there are too many stands of this size")
+    return every_stand(board, size)
+
+
+def every_stand(board, size):
+    """All stands of a size, however many there are, rising."""
     stands = [()]
     for step in range(size):
         stands = [stand + (cell,) for stand in stands for cell in followers(board, stand)]

@@ -1,9 +1,11 @@
-"""The names and arguments that the document's interface lists for what has landed."""
+"""The names and arguments that the document's interface lists."""
 
 import inspect
 import unittest
 
-from rooklands import boards, heads, hits, lesser, most, partings, rests, stairs, stands, texts
+from rooklands import boards, heads, hits, lesser, likes, most, partings, rests, stairs, stands, texts, weights
+from rooklands.bench import Bench
+from rooklands.desk import Desk
 
 LISTED = {
     boards: {
@@ -37,6 +39,20 @@ LISTED = {
         "is_parting": ["n", "thing"], "steps": ["n"], "parting_of": ["n", "stand"], "stand_of": ["n", "parting"],
         "partings": ["n", "many"],
     },
+    weights: {
+        "left_cells": ["stairs", "stand"], "by_weight": ["stairs", "size"], "lightest": ["stairs", "size"],
+        "ones_product": ["stairs", "number"],
+    },
+    likes: {
+        "is_way": ["one", "other", "thing"], "alike": ["one", "other"], "name_of": ["board"], "own_ways": ["board"],
+    },
+}
+METHODS = {
+    Bench: {
+        "put": ["row", "column"], "take": ["row", "column"], "row": [], "column": [], "turn": [],
+        "rest": [], "undo": [], "board": [], "counts": [], "most": [],
+    },
+    Desk: {"say": ["row"]},
 }
 
 
@@ -49,6 +65,13 @@ class InterfaceTest(unittest.TestCase):
                     self.assertEqual(list(parameters), arguments)
                     for parameter in parameters.values():
                         self.assertIs(parameter.default, inspect.Parameter.empty)
+
+    def test_classes_and_their_methods(self):
+        for kind, methods in METHODS.items():
+            self.assertEqual(list(inspect.signature(kind).parameters), [])
+            for name, arguments in methods.items():
+                with self.subTest(kind.__name__ + "." + name):
+                    self.assertEqual(list(inspect.signature(getattr(kind(), name)).parameters), arguments)
 
 
 if __name__ == "__main__":

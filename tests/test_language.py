@@ -42,6 +42,12 @@ def imports_of(tree):
     return [(alias.name, node.module) for node in tree.body if isinstance(node, ast.ImportFrom) for alias in node.names]
 
 
+def names_imported_in(tree):
+    """Each name by which a file calls what it imports."""
+    nodes = [node for node in tree.body if isinstance(node, ast.ImportFrom)]
+    return [alias.asname or alias.name for node in nodes for alias in node.names]
+
+
 def names_bound_in(tree):
     """Each name that a file gives a meaning, with its line."""
     for node in ast.walk(tree):
@@ -106,7 +112,7 @@ class LanguageTest(unittest.TestCase):
 
     def test_no_name_is_given_two_meanings(self):
         for path, tree in self.trees.items():
-            imported = [name for name, module in imports_of(tree)]
+            imported = names_imported_in(tree)
             top = imported + names_defined_in(tree)
             self.assertEqual(len(set(top)), len(top), path)
             for name, line in names_bound_in(tree):
@@ -128,8 +134,21 @@ class LanguageTest(unittest.TestCase):
     def test_every_import_is_used(self):
         for path, tree in self.trees.items():
             read = {node.id for node in ast.walk(tree) if isinstance(node, ast.Name)}
-            for name, module in imports_of(tree):
+            for name in names_imported_in(tree):
                 self.assertIn(name, read, path)
+
+    def test_methods_and_attributes_have_names_of_their_own(self):
+        taken = {name for kind in (str, int, list, dict, set, bytes, tuple) for name in dir(kind)}
+        methods, attributes = set(), set()
+        for tree in self.trees.values():
+            for node in ast.walk(tree):
+                if isinstance(node, ast.ClassDef):
+                    methods.update(each.name for each in node.body if isinstance(each, ast.FunctionDef))
+                if isinstance(node, ast.Attribute) and isinstance(node.ctx, ast.Store):
+                    attributes.add(node.attr)
+        methods.discard("__init__")
+        self.assertEqual(methods & attributes, set())
+        self.assertEqual((methods | attributes) & taken, set())
 
     def test_python_gives_no_warning(self):
         for path, text in self.files.items():
